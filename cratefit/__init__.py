@@ -1,0 +1,1 @@
+"""Cratefit: rectangles in a box, shown or barred."""
