@@ -1,6 +1,6 @@
 """Wares, boxes, lies, and the two orders in which wares are taken."""
 
-from cratefit.errors import BadSide, BadTurn
+from cratefit.errors import BadSide, BadTurn, TooMany
 
 
 def is_whole(value):
@@ -11,6 +11,16 @@ def is_whole(value):
 def check_side(side, least, most):
     if not is_whole(side) or side < least or side > most:
         raise BadSide(f"a side is a whole number from {least} to {most}")
+
+
+def check_count(wares, most):
+    if len(wares) > most:
+        raise TooMany(f"there are at most {most} wares here")
+
+
+def is_number_of(wares, k):
+    # Asked ahead of an index: Python would count a number below nought from the end.
+    return k >= 0 and k < len(wares)
 
 
 def made_ware(w, h, turns=False):
