@@ -17,7 +17,6 @@ def least_place(box, spots, w, h):
 
 
 def cornered_place(box, spots, ware):
-    """The best of the least places of a ware's lies, or None."""
     best = None
     for lie in lies_of(ware):
         w, h = sides_of(ware, lie)

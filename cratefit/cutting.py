@@ -6,7 +6,7 @@ from cratefit.plans import cut_spots, is_cut
 
 
 def free_end(piece, spots, side):
-    """The least end of a ware, strictly within the piece, at which a cut cuts no ware; side 0 across, 1 up."""
+    # side is 0 across and 1 up: a spot begins at the one and ends two further on.
     for end in sorted(set([spot[side] for spot in spots] + [spot[side + 2] for spot in spots])):
         within = piece[side] < end and end < piece[side + 2]
         if within and not any([spot[side] < end and end < spot[side + 2] for spot in spots]):
@@ -14,8 +14,8 @@ def free_end(piece, spots, side):
     return None
 
 
-def head_of(piece, spots, places, numbers):
-    """The leaf of a piece, or its cut without the parts, or None where it is stuck."""
+def leaf_or_cut(piece, spots, places, numbers):
+    # A cut is told without its parts: they are not known yet.
     if len(numbers) == 0:
         return ("waste",)
     first = numbers[0]
@@ -34,7 +34,7 @@ def is_within(spot, piece):
 
 
 def joined(heads):
-    """The plan whose cuts and leaves stand in this order."""
+    # Walked from the end, both parts of a cut are there when it comes.
     plans = []
     for head in reversed(heads):
         if is_cut(head):
@@ -55,7 +55,7 @@ def plan_of(box, wares, places):
     waiting = [((0, 0, box[0], box[1]), list(range(len(wares))))]
     while len(waiting) > 0:
         piece, numbers = waiting.pop()
-        head = head_of(piece, spots, places, numbers)
+        head = leaf_or_cut(piece, spots, places, numbers)
         if head is None:
             return ("stuck", piece, numbers)
         heads.append(head)

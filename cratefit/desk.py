@@ -14,7 +14,6 @@ MOST_FIGURES = 6
 
 
 def read_rest(word, rest):
-    """What stands behind the word of a deed: a box, a ware or a number."""
     try:
         if word == "box":
             return read_box(rest)

@@ -5,7 +5,7 @@ from cratefit.places import spots_of
 
 
 def shared_width(one, other):
-    """The width that two spots share across; nought or below where they share none."""
+    # Nought or below where they share none.
     return min(one[2], other[2]) - max(one[0], other[0])
 
 

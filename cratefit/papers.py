@@ -10,7 +10,6 @@ from cratefit.wares import is_number_of, lies_of, sides_of
 
 
 def branches_of(paper):
-    """The choices of a turn or a pair, each with the part behind it."""
     if paper[0] == "turn":
         k = paper[1]
         return [(("lie", k), False, paper[2]), (("lie", k), True, paper[3])]

@@ -13,7 +13,6 @@ def cut_side(spot, plan):
 
 
 def cut_spots(spot, plan):
-    """The spots of both parts of a piece that is cut."""
     x, y, x2, y2 = spot
     at = plan[1]
     if plan[0] == "across":
@@ -22,7 +21,7 @@ def cut_spots(spot, plan):
 
 
 def nodes_of(box, plan):
-    """All cuts and leaves with their spots, in the order of the plan; not recursive, as plans may be deep."""
+    # A list of what waits, not recursion: plans may be deep.
     nodes = []
     waiting = [((0, 0, box[0], box[1]), plan)]
     while len(waiting) > 0:

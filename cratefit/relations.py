@@ -27,7 +27,6 @@ def followers_of(count, pairs):
 
 
 def order_along(count, pairs):
-    """The numbers, the former of each pair ahead of the latter."""
     followers = followers_of(count, pairs)
     waits = [0] * count
     for i, j in pairs:
@@ -48,7 +47,7 @@ def order_along(count, pairs):
 
 
 def starts_and_former(sizes, pairs):
-    """The starts, and for each number the one ahead of it in a chain that gives its start."""
+    # By the former numbers a chain that gives a start can be walked back.
     followers = followers_of(len(sizes), pairs)
     starts = [0] * len(sizes)
     former = [None] * len(sizes)

@@ -7,14 +7,10 @@ MOST_WARES = 5
 
 
 class Way:
-    """What was chosen so far.
-
-    lies is a dict of the chosen lies. across and up are dicts: for each two wares (i, j) where
-    a chain of chosen relations leads from i to j, and for each taken ware (i, i), the longest
-    such chain, as a tuple (total, numbers).
-    """
-
     def __init__(self, lies, across, up):
+        # across and up tell for each (i, j) between which a chain of chosen relations leads, and
+        # for each taken ware as (k, k), the longest such chain, a tuple (total, numbers): so what
+        # is related already and what is too long are both found without a walk.
         self.lies = lies
         self.across = across
         self.up = up
@@ -30,7 +26,7 @@ def with_key(table, key, value):
 
 
 def with_pair(chains, i, j):
-    """The longest chains where i with j is chosen, too."""
+    # Each new chain leads to i, then from j on.
     told = dict(chains)
     for head in [pair for pair in chains if pair[1] == i]:
         for tail in [pair for pair in chains if pair[0] == j]:

@@ -5,8 +5,6 @@ from cratefit.wares import by_height
 
 
 class Shelver:
-    """The picker next: the last shelf or none."""
-
     def pick(self, rooms, w):
         return len(rooms) - 1 if len(rooms) > 0 and rooms[-1] >= w else None
 

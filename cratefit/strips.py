@@ -24,7 +24,7 @@ def check_width(width, wares):
 
 
 def least_height(width, wares):
-    """The least of the heights that fits, halved towards: what fits goes into every higher box, too."""
+    # Halving finds it: what fits goes into every higher box, too.
     heights = heights_of(wares)
     # Nothing goes into a height of nought; the greatest has room for all wares on one another.
     below = 0

@@ -152,6 +152,13 @@ class Cornered(unittest.TestCase):
         wares = [(2, 9, False), (8, 2, False), (3, 3, False), (2, 4, True)]
         self.assertEqual(cornered((10, 9), wares), plain_cornered((10, 9), wares))
 
+    def test_turned_for_the_lesser_x_of_like_y(self):
+        wares = [(2, 3, False), (1, 5, False), (1, 3, False), (1, 3, False), (1, 3, False)]
+        below = [(0, 0, False), (2, 0, False), (3, 0, False), (4, 0, False), (5, 0, False)]
+        self.assertEqual(cornered((6, 9), wares + [(3, 1, False)]), below + [(3, 3, False)])
+        self.assertEqual(cornered((6, 9), wares + [(3, 1, True)]), below + [(0, 3, True)])
+        self.assertEqual(cornered((6, 9), wares + [(1, 3, True)]), below + [(0, 3, False)])
+
     def test_a_ware_that_is_left_out(self):
         self.assertEqual(
             cornered((4, 4), [(5, 1, True), (4, 3, False), (2, 2, False), (1, 1, False)]),

@@ -157,7 +157,10 @@ class Faults(unittest.TestCase):
     def test_cuts_of_a_piece(self):
         self.told((9, 5), across(4, across(4, WASTE, WASTE), WASTE), ("cut", 4), [])
         self.told((9, 5), across(4, WASTE, across(5, WASTE, WASTE)), ("cut", 5), [])
+        self.told((5, 9), up(4, up(4, WASTE, WASTE), WASTE), ("cut", 4), [])
+        self.told((5, 9), up(4, WASTE, up(5, WASTE, WASTE)), ("cut", 5), [])
         self.assertIsNone(plan_fault((9, 5), [], across(4, across(3, WASTE, WASTE), across(4, WASTE, WASTE))))
+        self.assertIsNone(plan_fault((5, 9), [], up(4, up(3, WASTE, WASTE), up(4, WASTE, WASTE))))
 
     def test_a_number_that_no_ware_has(self):
         for k in (-1, -3, 3, GREAT, -GREAT):
